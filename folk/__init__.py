@@ -1,0 +1,1 @@
+"""Folk: address books poured together, and which cards are one person's."""
