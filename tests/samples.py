@@ -1,6 +1,9 @@
-"""What several tests ask with: the signs that texts may have, and small texts."""
+"""What several tests ask with: signs, small texts, facts, and books drawn by a number."""
+
+import random
 
 SIGNS = "".join(chr(code) for code in range(ord(" "), ord("~") + 1) if chr(code) != "%")
+FIELDS = ("name", "former", "way", "day", "mark")
 
 
 def texts_up_to(length, signs):
@@ -11,3 +14,28 @@ def texts_up_to(length, signs):
         last = [text + sign for text in last for sign in signs]
         texts.extend(last)
     return texts
+
+
+def subsets(things):
+    """Every list of some of these things, in their order."""
+    found = [[]]
+    for thing in things:
+        found = found + [some + [thing] for some in found]
+    return found
+
+
+def drawn_facts(number, many, cards=("a", "ab", "b", "ba", "c", "zed"), texts=("A", "a", "Ab", "b b", "#x")):
+    """So many facts, drawn by this number: in no order, some perhaps twice."""
+    draw = random.Random(number)
+    facts = []
+    for _ in range(many):
+        if draw.random() < 0.4:
+            one, other = sorted(draw.sample(cards, 2))
+            facts.append((one, draw.choice(("same", "apart")), other))
+        else:
+            facts.append((draw.choice(cards), draw.choice(FIELDS), draw.choice(texts)))
+    return facts
+
+
+def drawn_book(number, many, **more):
+    return sorted(set(drawn_facts(number, many, **more)))

@@ -56,6 +56,19 @@ def walked():
             yield f"{name}:{getattr(node, 'lineno', 0)}", node
 
 
+def held_names(tree):
+    """The classes and imports of a file: no parameter and no local is called so."""
+    names = [node.name for node in tree.body if isinstance(node, ast.ClassDef)]
+    for node in tree.body:
+        if isinstance(node, ast.ImportFrom):
+            names.extend(alias.name for alias in node.names)
+    return names
+
+
+def named_call(node, names):
+    return isinstance(node, ast.Call) and isinstance(node.func, ast.Name) and node.func.id in names
+
+
 def bound_names(node):
     if isinstance(node, (ast.FunctionDef, ast.ClassDef)):
         return [node.name]
@@ -116,6 +129,66 @@ class TestLanguage(unittest.TestCase):
             if isinstance(node, ast.ListComp):
                 self.assertEqual(len(node.generators), 1, place)
                 self.assertLessEqual(len(node.generators[0].ifs), 1, place)
+
+    def test_rows_that_stand_by_themselves_are_calls(self):
+        for name, tree in trees():
+            told = [node for node in ast.walk(tree) if isinstance(node, ast.Expr)]
+            self.assertIs(told[0], tree.body[0], name)
+            for node in told[1:]:
+                self.assertIsInstance(node.value, ast.Call, f"{name}:{node.lineno}")
+
+    def test_is_stands_beside_none_and_truths(self):
+        for place, node in walked():
+            if isinstance(node, ast.Compare) and isinstance(node.ops[0], (ast.Is, ast.IsNot)):
+                self.assertIsInstance(node.comparators[0], ast.Constant, place)
+                self.assertIn(node.comparators[0].value, (None, True, False), place)
+
+    def test_what_is_walked_at_once_is_not_kept(self):
+        for place, node in walked():
+            if isinstance(node, (ast.Assign, ast.Return)):
+                self.assertFalse(named_call(node.value, ("zip", "enumerate", "reversed", "range", "set")), place)
+
+    def test_a_set_is_sorted_counted_or_asked_on_the_spot(self):
+        for name, tree in trees():
+            allowed = set()
+            for node in ast.walk(tree):
+                if named_call(node, ("sorted", "len")) or isinstance(node, ast.Compare):
+                    parts = node.args if isinstance(node, ast.Call) else [node.left] + node.comparators
+                    while parts:
+                        part = parts[0]
+                        parts = parts[1:]
+                        allowed.add(part)
+                        if isinstance(part, ast.BinOp):
+                            parts = parts + [part.left, part.right]
+            for node in ast.walk(tree):
+                if named_call(node, ("set", "frozenset")):
+                    self.assertIn(node, allowed, f"{name}:{node.lineno}")
+
+    def test_no_parameter_and_no_local_is_called_like_a_class_or_an_import(self):
+        for name, tree in trees():
+            held = held_names(tree)
+            for node in ast.walk(tree):
+                if isinstance(node, (ast.arg, ast.Name)) and not isinstance(getattr(node, "ctx", None), ast.Load):
+                    for bound in bound_names(node):
+                        self.assertNotIn(bound, held, f"{name}:{node.lineno}")
+
+    def test_a_name_is_bound_once_at_a_files_top(self):
+        for name, tree in trees():
+            bound = []
+            for row in tree.body:
+                nodes = [row] if isinstance(row, (ast.FunctionDef, ast.ClassDef)) else list(ast.walk(row))
+                bound.extend(told for node in nodes for told in bound_names(node))
+            self.assertEqual(len(bound), len(set(bound)), name)
+
+    def test_no_name_is_a_method_here_and_a_value_there(self):
+        methods = set()
+        values = set()
+        for _, node in walked():
+            if isinstance(node, ast.ClassDef):
+                methods.update(row.name for row in node.body if isinstance(row, ast.FunctionDef))
+            if isinstance(node, ast.Attribute) and isinstance(node.ctx, ast.Store):
+                values.add(node.attr)
+        self.assertEqual(methods & values, set())
 
     def test_values_are_plain(self):
         for place, node in walked():
