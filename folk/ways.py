@@ -54,21 +54,17 @@ def way_of(one, other):
     return list(reversed(steps))
 
 
-def shared_start(one, other):
-    count = 0
-    for sign, target in zip(one, other):
-        if sign != target:
-            break
-        count = count + 1
-    return count
+def near_forms(text):
+    # A text put plain, parted at each place, with the sign behind it and without:
+    # two texts are near just where they share such a form. Rules ask this of very
+    # many texts, and shared forms are found without going through all pairs of texts.
+    plain = plain_of(text)
+    forms = []
+    for place in range(len(plain) + 1):
+        forms.append((plain[:place], plain[place:]))
+        forms.append((plain[:place], plain[place + 1:]))
+    return forms
 
 
 def is_near(one, other):
-    # Rules ask this of very many texts, so it doesn't reckon the whole distance:
-    # behind what both begin with, one step must be enough to make the rests the same.
-    first = plain_of(one)
-    second = plain_of(other)
-    start = shared_start(first, second)
-    rest = first[start + 1:]
-    target = second[start + 1:]
-    return rest == target or rest == second[start:] or first[start:] == target
+    return len(set(near_forms(one)) & set(near_forms(other))) > 0

@@ -39,3 +39,19 @@ def drawn_facts(number, many, cards=("a", "ab", "b", "ba", "c", "zed"), texts=("
 
 def drawn_book(number, many, **more):
     return sorted(set(drawn_facts(number, many, **more)))
+
+
+def shortest_chains(book, one, other):
+    """Every shortest chain of facts with same between two cards."""
+    told = {(first, second) for first, field, second in book if field == "same"}
+    chains = [[one]]
+    seen = {one}
+    while chains and all(chain[-1] != other for chain in chains):
+        longer = []
+        for chain in chains:
+            for card in {name for pair in told if chain[-1] in pair for name in pair}:
+                if card not in seen:
+                    longer.append(chain + [card])
+        seen |= {chain[-1] for chain in longer}
+        chains = longer
+    return [chain for chain in chains if chain[-1] == other]
