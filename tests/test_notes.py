@@ -52,6 +52,8 @@ WRONG_ROWS = (
     " # ann name Ann",
     "a#",
     "-",
+    "x",
+    "x x",
 )
 
 

@@ -61,6 +61,7 @@ WRONG_ROWS = (
     "for 1 name same same",
     "for 1 name same x",
     "for for 1 name same",
+    "for  name same",
     "for  1 name same",
     "for 1  name same",
     "for 1 name  same",
